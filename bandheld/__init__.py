@@ -1,0 +1,1 @@
+"""Congestion control whose shares, settling time and buffers are exact."""

@@ -1,0 +1,76 @@
+"""Each name of the interface stands in its own module, with the documented parameters."""
+
+import importlib
+import inspect
+import unittest
+
+FUNCTIONS = {
+    "amounts": [
+        "amount(top, bottom=1)", "is_amount(value)", "is_small(value)", "plus(*amounts)", "minus(first, second)",
+        "times(first, second)", "over(first, second)", "compare(first, second)", "smallest(first, *others)",
+        "largest(first, *others)", "amount_text(value)", "read_amount(text)",
+    ],
+    "shares": [
+        "is_manner(value)", "share(manner, weight, level)", "cut_manner(manner, least, cap)", "total(wishes, level)",
+    ],
+    "levels": ["level_of(capacity, wishes)", "allotments(level, wishes)", "spare_shares(rest, wants)"],
+    "texts": ["house_text(house)", "read_house(text)"],
+    "filling": ["fill(house)"],
+}
+CLASSES = {
+    "links": {
+        "Link": [
+            "__init__(self, name, capacity, *, low=None, way=1, discipline='own', strange=False)", "is_shaky(self)",
+            "as_strange(self)", "__eq__(self, other)", "__repr__(self)",
+        ],
+    },
+    "flows": {
+        "Flow": [
+            "__init__(self, name, route, buffers, *, kind='level', size=None, weight=1, least=(0, 1), cap=(1000, 1), "
+            "door=None, way=1, manner=None, strange=False)",
+            "is_gone(self)", "channel_of(self, kind, link)", "with_manner(self, manner)",
+            "with_buffers(self, buffers, size=None)", "as_strange(self)", "__eq__(self, other)", "__repr__(self)",
+        ],
+    },
+    "houses": {
+        "House": [
+            "__init__(self, age, *parts)", "links(self)", "flows(self)", "link_of(self, name)", "flow_of(self, name)",
+            "on(self, link)", "way_of(self, flow, hop)", "length(self, flow)", "is_plain(self)", "is_clear(self, flow)",
+            "with_manner(self, flow, manner)", "with_strange(self, *names)", "with_flow(self, flow)",
+            "__contains__(self, name)", "__eq__(self, other)", "__len__(self)", "__bool__(self)", "__repr__(self)",
+        ],
+    },
+    "filling": {
+        "Filling": [
+            "level_at(self, link)", "share_of(self, flow)", "reason(self, flow)", "levels(self)", "shares(self)",
+            "__eq__(self, other)", "__repr__(self)",
+        ],
+    },
+}
+
+
+class Names(unittest.TestCase):
+    def check(self, holder, module, told):
+        name = told.split("(")[0]
+        found = vars(holder)[name]
+        self.assertEqual(found.__module__, module)
+        self.assertEqual(name + str(inspect.signature(found)), told)
+
+    def test_functions(self):
+        for name, functions in FUNCTIONS.items():
+            module = importlib.import_module("bandheld." + name)
+            for told in functions:
+                self.check(module, module.__name__, told)
+
+    def test_classes(self):
+        for name, classes in CLASSES.items():
+            module = importlib.import_module("bandheld." + name)
+            for class_name, methods in classes.items():
+                made = getattr(module, class_name)
+                self.assertEqual(made.__module__, module.__name__)
+                for told in methods:
+                    self.check(made, module.__name__, told)
+
+
+if __name__ == "__main__":
+    unittest.main()
