@@ -1,9 +1,10 @@
 """The filling of a plain house: its fair shares."""
 
 from bandheld.amounts import TOP, amount_text, smallest
-from bandheld.errors import NotPlain, UnknownName
+from bandheld.errors import NotPlain
 from bandheld.levels import level_of
 from bandheld.shares import share
+from bandheld.tables import entry_of
 
 
 class Filling:
@@ -16,15 +17,15 @@ class Filling:
 
     def level_at(self, link):
         """The level of a link."""
-        return _entry(self._levels, link)
+        return entry_of(self._levels, link)
 
     def share_of(self, flow):
         """The share of a flow."""
-        return _entry(self._shares, flow)
+        return entry_of(self._shares, flow)
 
     def reason(self, flow):
         """Why the share of a flow is not greater: gone, most or the name of a link."""
-        return _entry(self._reasons, flow)
+        return entry_of(self._reasons, flow)
 
     def levels(self):
         """The dict from the links to their levels."""
@@ -43,13 +44,6 @@ class Filling:
 
     def __repr__(self):
         return f"Filling({_table_text(self._levels)}; {_table_text(self._shares)})"
-
-
-def _entry(table, name):
-    """The entry of a table for any value as a name."""
-    if not isinstance(name, str) or name not in table:
-        raise UnknownName(name)
-    return table[name]
 
 
 def _table_text(table):

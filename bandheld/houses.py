@@ -15,6 +15,7 @@ from bandheld.errors import (
 )
 from bandheld.flows import Flow
 from bandheld.links import Link
+from bandheld.tables import entry_of
 
 OLDEST = 12
 
@@ -52,15 +53,11 @@ class House:
 
     def link_of(self, name):
         """The link with a name."""
-        if not isinstance(name, str) or name not in self._links:
-            raise UnknownName(name)
-        return self._links[name]
+        return entry_of(self._links, name)
 
     def flow_of(self, name):
         """The flow with a name."""
-        if not isinstance(name, str) or name not in self._flows:
-            raise UnknownName(name)
-        return self._flows[name]
+        return entry_of(self._flows, name)
 
     def on(self, link):
         """The names of the flows on a link, ascending."""
@@ -135,6 +132,14 @@ class House:
 
     def __repr__(self):
         return f"House({len(self._links)} links, {len(self._flows)} flows)"
+
+
+def true_flow_of(house, name):
+    """The true flow of a house with a name."""
+    found = house.flow_of(name)
+    if found.strange:
+        raise UnknownName(name)
+    return found
 
 
 def _check_parts(parts):

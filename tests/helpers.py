@@ -7,8 +7,9 @@ from bandheld.flows import Flow
 from bandheld.houses import House
 from bandheld.links import Link
 
+BUFFER = (20, 1)
 LINK = Link("a", (4, 1))
-FLOW = Flow("f", ["a"], [(20, 1)])
+FLOW = Flow("f", ["a"], [BUFFER])
 HOUSE = House(3, LINK, FLOW)
 
 # Values that are neither numbers nor names nor amounts nor manners nor parts.
@@ -45,6 +46,17 @@ ODD_VALUES = [
     HOUSE,
     (HOUSE, [FLOW]),
 ]
+
+
+def flow(name, *route, **more):
+    """A flow with buffers of one size."""
+    return Flow(name, list(route), [BUFFER] * len(route), **more)
+
+
+def example(age=3, **of_g):
+    """The house of the document's examples."""
+    return House(
+        age, Link("a", (4, 1)), Link("b", (6, 1)), flow("f", "a", "b"), flow("g", "a", **of_g), flow("h", "b"))
 
 
 def fraction(value):

@@ -5,21 +5,13 @@ from fractions import Fraction
 from bandheld.amounts import ONE, TOP, ZERO
 from bandheld.errors import NotPlain, UnknownName
 from bandheld.filling import Filling, fill
-from bandheld.flows import Flow
 from bandheld.houses import House
 from bandheld.links import Link
-from tests.helpers import FLOW, HOUSE, ODD_VALUES, check_raises, fraction, plain_share, plain_total, random_house
+from tests.helpers import (
+    FLOW, HOUSE, ODD_VALUES, check_raises, example, flow, fraction, plain_share, plain_total, random_house,
+)
 
-BUFFER = (20, 1)
 NARROW = Fraction(1, 10 ** 60)
-
-
-def flow(name, *route, **more):
-    return Flow(name, list(route), [BUFFER] * len(route), **more)
-
-
-def example():
-    return House(3, Link("a", (4, 1)), Link("b", (6, 1)), flow("f", "a", "b"), flow("g", "a"), flow("h", "b"))
 
 
 class Examples(unittest.TestCase):

@@ -17,14 +17,9 @@ from bandheld.errors import (
 from bandheld.flows import Flow
 from bandheld.houses import House
 from bandheld.links import Link
-from tests.helpers import FLOW, HOUSE, LINK, ODD_VALUES, check_raises, random_house
+from tests.helpers import FLOW, HOUSE, LINK, ODD_VALUES, check_raises, flow, random_house
 
-BUFFER = (20, 1)
 NO_NAMES = ODD_VALUES + ["x", "House", ("a",), ["a"], 0, 1, -1]
-
-
-def flow(name, *route, **more):
-    return Flow(name, list(route), [BUFFER] * len(route), **more)
 
 
 def window(name, buffers, size=(5, 1)):

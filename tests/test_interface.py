@@ -16,7 +16,24 @@ FUNCTIONS = {
     "levels": ["level_of(capacity, wishes)", "allotments(level, wishes)", "spare_shares(rest, wants)"],
     "texts": ["house_text(house)", "read_house(text)"],
     "filling": ["fill(house)"],
+    "fairness": ["check_sharing(house, sharing)", "fits(house, sharing)", "is_fair(house, sharing)"],
+    "bands": [
+        "low_value(house, link, amounts)", "high_value(house, link, amounts)", "first_band(house)",
+        "next_band(house, band)", "bands(house)", "settling(house)", "last_band(house)",
+    ],
+    "ladders": ["ladder(house)", "count(house)", "band_of_steps(house, steps)", "is_ladder(house, steps)"],
+    "boxes": ["is_box(house, band)", "floor_of(house, flow)", "floors(house)"],
+    "plans": [
+        "subsets(names, most)", "fewest_breakers(house, flow, floor, *, among, most=3)", "need_of(house, flow, hop)",
+        "with_needs(house)",
+    ],
+    "shakes": ["shake(house, flow, manner, ticks)"],
+    "channels": [
+        "channels(house)", "channels_to(house, name)", "channels_from(house, name)", "is_true(house, channel)",
+        "is_value(channel, value)", "first_value(house, channel)",
+    ],
 }
+GENERATORS = [("bands", "bands"), ("plans", "subsets")]
 CLASSES = {
     "links": {
         "Link": [
@@ -46,6 +63,27 @@ CLASSES = {
             "__eq__(self, other)", "__repr__(self)",
         ],
     },
+    "bands": {
+        "Band": [
+            "__init__(self, house, lows, highs)", "low_of(self, link)", "high_of(self, link)", "lows(self)",
+            "highs(self)", "least_low(self, route)", "within(self, other)", "__contains__(self, place)", "is_point(self)",
+            "__eq__(self, other)", "__len__(self)", "__bool__(self)", "__repr__(self)",
+        ],
+    },
+    "ears": {
+        "Ears": [
+            "__init__(self, age)", "hear(self, channel, tick, value, now)", "note(self, channel)",
+            "counting(self, channel, now)", "force(self, channel, tick, value)", "copy(self)", "__eq__(self, other)",
+            "__len__(self)", "__bool__(self)",
+        ],
+    },
+    "letters": {
+        "Bag": [
+            "__init__(self)", "put(self, channel, tick, value)", "take(self, number)", "double(self, number)",
+            "letters(self)", "older(self, tick)", "__contains__(self, number)", "copy(self)", "__eq__(self, other)",
+            "__len__(self)", "__bool__(self)",
+        ],
+    },
 }
 
 
@@ -61,6 +99,11 @@ class Names(unittest.TestCase):
             module = importlib.import_module("bandheld." + name)
             for told in functions:
                 self.check(module, module.__name__, told)
+
+    def test_generators(self):
+        for name, function in GENERATORS:
+            module = importlib.import_module("bandheld." + name)
+            self.assertTrue(inspect.isgeneratorfunction(getattr(module, function)))
 
     def test_classes(self):
         for name, classes in CLASSES.items():
