@@ -47,6 +47,9 @@ ODD_VALUES = [
     (HOUSE, [FLOW]),
 ]
 
+# Values that are no names of flows that a house has.
+ODD_NAMES = ODD_VALUES + ["x", ("a",), ["f"], 0, ("f", "g")]
+
 
 def flow(name, *route, **more):
     """A flow with buffers of one size."""

@@ -32,6 +32,15 @@ FUNCTIONS = {
         "channels(house)", "channels_to(house, name)", "channels_from(house, name)", "is_true(house, channel)",
         "is_value(channel, value)", "first_value(house, channel)",
     ],
+    "disciplines": [
+        "own_sends(allotments, limits)", "spare_sends(capacity, weights, allotments, limits)",
+        "rank_sends(capacity, limits)",
+    ],
+    "senders": ["sender_of(flow, age)"],
+    "replays": ["replay(house, deeds)", "rehearse(world, deeds)", "rehearse_twice(world, deeds, inner)"],
+    "swings": ["lead(world, turns, *, low_first=True)", "swing(house, turns, *, from_top=True)"],
+    "verdicts": ["verdict(house, flow, floor)", "is_right(house, verdict)"],
+    "books": ["fault_of(house, book)", "levels_of(book)"],
 }
 GENERATORS = [("bands", "bands"), ("plans", "subsets")]
 CLASSES = {
@@ -84,7 +93,58 @@ CLASSES = {
             "__len__(self)", "__bool__(self)",
         ],
     },
+    "wires": {
+        "Wire": [
+            "__init__(self, way)", "put(self, tick, water)", "arriving(self, tick)", "under_way(self, tick)", "copy(self)",
+        ],
+    },
+    "buffers": {
+        "Buffer": [
+            "__init__(self, size)", "take_in(self, water)", "give(self, water)", "set_to(self, water)", "copy(self)",
+        ],
+    },
+    "hops": {
+        "Hop": [
+            "__init__(self, way, age)", "remember(self, tick, water)", "sent_after(self, tick, now)",
+            "room(self, now, made, told)", "copy(self)",
+        ],
+    },
+    "senders": {
+        "Sender": [
+            "__init__(self, flow, age)", "offer(self, now, manner, heard)", "note_sent(self, water)",
+            "asks(self, manner)", "copy(self)",
+        ],
+        "LevelSender": ["__init__(self, flow, age)", "offer(self, now, manner, heard)", "copy(self)"],
+        "EagerSender": ["__init__(self, flow, age)", "offer(self, now, manner, heard)", "copy(self)"],
+        "WindowSender": ["__init__(self, flow, age)", "offer(self, now, manner, heard)", "copy(self)"],
+        "ProbeSender": [
+            "__init__(self, flow, age)", "offer(self, now, manner, heard)", "asks(self, manner)", "copy(self)",
+            "state(self)", "force(self, low, high, done, begun, rate)",
+        ],
+    },
+    "worlds": {
+        "World": [
+            "__init__(self, house)", "letters(self)", "carry(self, number)", "lose(self, number)",
+            "copy_letter(self, number)", "carry_old(self, age=1)", "held_note(self, channel)", "say(self, channel, value)",
+            "hush(self, channel)", "send(self, flow, hop, water)", "set_capacity(self, link, capacity)",
+            "change(self, flow, manner)", "present(self)",
+            "stir(self, *, held=(), letters=(), wires=(), buffers=(), sent=(), probes=())", "tick(self)",
+            "run(self, count, *, age=1)", "level_at(self, link, tick)", "allotment_at(self, flow, link, tick)",
+            "sent_at(self, flow, hop, tick)", "held_at(self, flow, hop, tick)", "spilled_at(self, flow, hop, tick)",
+            "delivered_at(self, flow, tick)", "delivered(self, flow, first, last)", "on_wires(self, flow)",
+            "held_now(self, flow, hop)", "rate(self, flow)", "asked(self, flow)", "book(self)", "deeds(self)",
+            "do(self, deed)", "copy(self)", "__eq__(self, other)", "__repr__(self)",
+        ],
+    },
+    "replays": {
+        "Trial": ["__init__(self, world)", "__enter__(self)", "__exit__(self, kind, value, trace)"],
+    },
+    "verdicts": {
+        "Kept": ["__init__(self, flow, floor, band)", "__bool__(self)", "__eq__(self, other)", "__repr__(self)"],
+        "Broken": ["__init__(self, flow, floor, turns)", "__bool__(self)", "__eq__(self, other)", "__repr__(self)"],
+    },
 }
+PROPERTIES = [("buffers", "Buffer", "held fullest"), ("worlds", "World", "house now calm_since")]
 
 
 class Names(unittest.TestCase):
@@ -104,6 +164,11 @@ class Names(unittest.TestCase):
         for name, function in GENERATORS:
             module = importlib.import_module("bandheld." + name)
             self.assertTrue(inspect.isgeneratorfunction(getattr(module, function)))
+
+    def test_properties(self):
+        for name, class_name, told in PROPERTIES:
+            made = getattr(importlib.import_module("bandheld." + name), class_name)
+            self.assertEqual({key for key, value in vars(made).items() if isinstance(value, property)}, set(told.split()))
 
     def test_classes(self):
         for name, classes in CLASSES.items():

@@ -10,7 +10,7 @@ PACKAGE = pathlib.Path(__file__).resolve().parent.parent / "bandheld"
 BUILTINS = (
     "len range enumerate zip min max sum abs sorted reversed int str bool list tuple dict set isinstance ord repr any "
     "all divmod iter next Exception ValueError LookupError RuntimeError TypeError KeyError NotImplemented super map "
-    "True False None"
+    "property True False None"
 ).split()
 METHODS = (
     "append clear copy count endswith extend find get index insert isalnum isalpha isdigit islower isspace isupper "
@@ -109,6 +109,45 @@ class Rules(unittest.TestCase):
             names |= {node.attr for node in ast.walk(tree) if isinstance(node, ast.Attribute)}
             self.assertEqual(names & set(BARRED_WORDS), set(), path)
             self.assertIsNone(re.search(r"\btype\b|dataclass|overload|contextmanager|_wall", path.read_text()), path)
+
+    def test_properties_are_assigned_nowhere(self):
+        properties = {
+            node.name for _, node in walk() if isinstance(node, ast.FunctionDef) and node.decorator_list
+        }
+        self.assertEqual(properties, {"held", "fullest", "house", "now", "calm_since"})
+        for path, node in walk():
+            if isinstance(node, ast.Attribute) and isinstance(node.ctx, ast.Store):
+                self.assertNotIn(node.attr, properties | set(METHODS) - {"copy", "count", "index"}, (path, node.lineno))
+                # Attributes are assigned through a local name alone.
+                self.assertIsInstance(node.value, ast.Name, (path, node.lineno))
+
+    def test_methods_and_attributes_of_one_class(self):
+        for path, node in walk():
+            if isinstance(node, ast.ClassDef):
+                methods = [part.name for part in node.body if isinstance(part, ast.FunctionDef)]
+                self.assertEqual(len(methods), len(set(methods)), (path, node.name))
+                stored = {
+                    part.attr for part in ast.walk(node)
+                    if isinstance(part, ast.Attribute) and isinstance(part.ctx, ast.Store)
+                }
+                self.assertEqual(stored & set(methods), set(), (path, node.name))
+
+    def test_stars_and_blocks(self):
+        for path, node in walk():
+            if isinstance(node, ast.Starred):
+                self.assertIsInstance(node.value, ast.Name, (path, node.lineno))
+            if isinstance(node, ast.Call):
+                self.assertTrue(all([word.arg is not None for word in node.keywords]), (path, node.lineno))
+            if isinstance(node, ast.With):
+                self.assertIsInstance(node.items[0].context_expr, ast.Call)
+            self.assertNotIsInstance(node, (ast.Match, ast.Nonlocal, ast.Lambda), path)
+
+    def test_docstrings(self):
+        for path, tree in trees():
+            self.assertTrue(ast.get_docstring(tree), path)
+            for node in ast.walk(tree):
+                if isinstance(node, ast.ClassDef):
+                    self.assertTrue(ast.get_docstring(node), (path, node.name))
 
     def test_imports_go_one_way(self):
         needs = {
